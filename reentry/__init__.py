@@ -1,0 +1,1 @@
+"""Reentry: modules that are called back while they work, compared for all surroundings."""
