@@ -1,5 +1,9 @@
 """Values of many kinds, and a helper for tests of errors."""
 
+from reentry.expressions import Number, Variable
+from reentry.rules import Rule
+from reentry.statements import Fail
+
 SIXTY_DIGITS = int("9" * 60)
 NESTED = ((((((1, "a"), [True]), None), {"k": (2,)}), ()), -1)
 
@@ -21,6 +25,7 @@ def any_values():
         "", "a", "A", "a b", "abcdefghi", "1", "a\n", " a", "x" * 20000, b"a",
         [], ["a"], [1, 2], (), ("a",), (1, 2), ("a", 1), {}, {"a": 1}, {1, 2}, NESTED,
         int, len, Stranger(), object(),
+        Number(1), Variable("a"), Fail(), Rule((), ()),
     ]
 
 
@@ -29,7 +34,7 @@ def values_other_than(fits):
     return [value for value in any_values() if not fits(value)]
 
 
-def error_of(test, action, *args, **named):
+def error_of(test, action, /, *args, **named):
     """The class and the fields of the error that a call raises."""
     try:
         given = action(*args, **named)
@@ -38,7 +43,7 @@ def error_of(test, action, *args, **named):
     test.fail(f"no error but {given!r:.200}")
 
 
-def check_error(test, kind, fields, action, *args, **named):
+def check_error(test, kind, fields, action, /, *args, **named):
     """Check the class of the error of a call, and that its fields are these very values."""
     found, seen = error_of(test, action, *args, **named)
     test.assertIs(found, kind, (found, seen))

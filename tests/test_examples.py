@@ -1,0 +1,84 @@
+import unittest
+
+from reentry import errors
+from reentry.expressions import Below, Choose, Minus, Number, Variable, read_expression
+from reentry.machines import Guarded, Layered
+from reentry.modules import Module
+from reentry.rules import Rule
+from reentry.statements import Assign, Attempt, Call, Fail, If
+
+TEXT = (
+    "variable n 4 0\ncallout changed 4 2\nentry add 2 4 k\n  if below(n, 3)\n    assign n plus(n, k)\n"
+    "    call changed n\n  return n\nentry get 1 4 z\n  return n"
+)
+
+
+class TestExamples(unittest.TestCase):
+    """The examples of the document."""
+
+    def test_expressions(self):
+        n, k = Variable("n"), Variable("k")
+        one = Choose(Below(n, Number(3)), n + k, Number(0))
+        self.assertEqual(
+            [
+                str(one), one.names, one.parts, one.depth, one.evaluate({"n": 2, "k": 5}), one.evaluate({"n": 3, "k": 5}),
+                str(~n), Minus(n, k).evaluate({"n": 1, "k": 4}), read_expression("plus(n, k)") == n + k, repr(Number(7)),
+            ],
+            ["choose(below(n, 3), plus(n, k), 0)", ("k", "n"), 8, 3, 7, 0, "not(n)", -3, True, "Expression(7)"],
+        )
+
+    def test_an_expression_without_a_space(self):
+        with self.assertRaises(errors.InvalidText) as caught:
+            read_expression("plus(n,1)")
+        self.assertEqual(caught.exception.value, "plus(n,1)")
+
+    def test_statements(self):
+        risky = Attempt(
+            (Call("ask", Variable("n"), "y"), If(Variable("y"), (Fail(),))), (Assign("n", Number(0)),),
+        )
+        self.assertEqual(
+            [risky.amount, risky.height, str(risky), repr(risky)],
+            [5, 3, "attempt\n  call ask n into y\n  if y\n    fail\nelse\n  assign n 0", "Statement(attempt)"],
+        )
+
+    def test_modules(self):
+        module = Module.read(TEXT)
+        self.assertEqual(
+            [str(module) == TEXT, module.variables, module.callouts, module.entries[1].name, module.lines[4], repr(module)],
+            [True, (("n", 4, 0),), (("changed", 4, 2),), "get", "    assign n plus(n, k)", "Module(2 entries, 5 statements)"],
+        )
+
+    def test_rules(self):
+        rule = Rule(
+            ((0, ("out", "ask"), 1), (1, ("answer", "ask"), 0), (1, ("call", "put", 0), 1), (1, ("call", "put"), 2)), (2,),
+        )
+        self.assertEqual(
+            [
+                rule.after(0, ("out", "ask", 3)), rule.after(1, ("call", "put", 0)), rule.after(1, ("call", "put", 1)),
+                rule.after(2, ("answer", "ask", -1)), rule.after(0, ("hang",)),
+            ],
+            [1, 1, 2, 2, 0],
+        )
+
+    def test_machines(self):
+        module = Module.read(TEXT)
+        upper = Module.read("callout store 2 4\nentry twice 1 4 z\n  call store 1\n  call store 1\n  return 3")
+        both = Layered(upper, module, (("store", "add"),))
+        self.assertEqual(
+            [
+                module.enter((1,), "add", 1), module.resume((3,), (5, (1,)), 0), module.enter((3,), "add", 1),
+                both.face.entries, both.face.callouts, both.enter(both.first, "twice", 0)[0], both.values_in(both.first),
+                Guarded(module).values_in(Guarded(module).first),
+            ],
+            [
+                (("out", "changed", 2), (2,), (5, (1,))), (("back", 3), (3,), None), (("back", 3), (3,), None),
+                (("twice", 1, 4),), (("changed", 4, 2),), ("out", "changed", 1), (0,), (0,),
+            ],
+        )
+
+    def test_hangs(self):
+        module = Module.read("entry spin 2 1 k\n  while k\n    assign k 1\n  attempt\n    fail\n  else\n    fail")
+        self.assertEqual(
+            [module.enter((), "spin", 1), module.enter((), "spin", 0)],
+            [(("hang",), (), None), (("back", -1), (), None)],
+        )
