@@ -1,3 +1,5 @@
+import doctest
+import pathlib
 import unittest
 
 from reentry import errors
@@ -82,3 +84,9 @@ class TestExamples(unittest.TestCase):
             [module.enter((), "spin", 1), module.enter((), "spin", 0)],
             [(("hang",), (), None), (("back", -1), (), None)],
         )
+
+    def test_readme(self):
+        readme = pathlib.Path(__file__).resolve().parent.parent / "README.md"
+        failed, tried = doctest.testfile(str(readme), module_relative=False)
+        self.assertEqual(failed, 0)
+        self.assertGreater(tried, 3)
