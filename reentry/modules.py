@@ -97,6 +97,14 @@ class Module(Machine):
         program, place = self.waits[line]
         return program.go_on(store, place, own, answer)
 
+    def lines_behind(self, store, frame, move):
+        """The lines of the statements that a move runs, as the keys of a dict; an answer is one to this frame."""
+        if move[0] == "call":
+            return self.programs[move[1]].lines_of_call(store, move[2])
+        line, own = frame
+        program, place = self.waits[line]
+        return program.lines_of_answer(store, place, own, move[1])
+
     def shown_in(self, store):
         return store
 

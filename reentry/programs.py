@@ -131,22 +131,49 @@ class Program:
 
     def begin(self, store, value):
         """The response to a call, the store behind it, and the frame or None."""
-        own = (value,) + (0,) * (len(self.own) - 1)
-        return self.run_from(store, 0, self.values_from(store, own))
+        return self.run_from(store, 0, self.values_of_call(store, value))
 
     def go_on(self, store, place, own, answer):
         """The same for an answer to the call statement at this place, with these values of its frame."""
         values = self.values_from(store, own)
-        step = self.steps[place]
-        if answer == FAIL:
-            return self.run_from(store, self.places[step.target], values)
-        if step.into is not None:
-            values[step.into] = answer % self.sizes[step.into]
-        return self.run_from(store, place + 1, values)
+        behind = self.take_answer(place, answer, values)
+        return self.run_from(store, behind, values)
+
+    def lines_of_call(self, store, value):
+        """The lines of the statements that a call runs, as the keys of a dict."""
+        return self.lines_from(0, self.values_of_call(store, value))
+
+    def lines_of_answer(self, store, place, own, answer):
+        """The same for an answer to the call statement at this place, with these values of its frame."""
+        values = self.values_from(store, own)
+        behind = self.take_answer(place, answer, values)
+        return self.lines_from(behind, values)
+
+    def values_of_call(self, store, value):
+        """The values of all names when a call with this value begins."""
+        return self.values_from(store, (value,) + (0,) * (len(self.own) - 1))
 
     def values_from(self, store, own):
         """The values of all names, from those of the variables and those of the parameter and slots."""
         return dict(zip(self.shared + self.own, store + own))
+
+    def take_answer(self, place, answer, values):
+        """The place where the run goes on when the call statement at this place is answered.
+
+        If a name gets the answer, it has it in `values` then.
+        """
+        step = self.steps[place]
+        if answer == FAIL:
+            return self.places[step.target]
+        if step.into is not None:
+            values[step.into] = answer % self.sizes[step.into]
+        return place + 1
+
+    def lines_from(self, place, values):
+        """The lines of the statements that a run from this place on runs. It changes `values`."""
+        lines = {}
+        last_step(self.steps, self.places, place, values, lines)
+        return lines
 
     def run_from(self, store, place, values):
         """What a run from this place on leads to. It changes `values`."""
@@ -171,14 +198,16 @@ def sizes_in(entry, variables):
     return sizes
 
 
-def last_step(steps, places, place, values):
+def last_step(steps, places, place, values, lines=None):
     """Run steps from this place on, up to one that ends the run; it is returned, or None if there is none.
 
-    The names get their new values in `values`.
+    The names get their new values in `values`. If `lines` is a dict, the lines of the statements become keys of it.
     """
     seen = {}
     while True:
         step = steps[place]
+        if lines is not None and step.line is not None:
+            lines[step.line] = True
         if step.word == "assign":
             values[step.name] = step.expression.worth(values) % step.size
             place += 1

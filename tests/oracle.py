@@ -42,11 +42,15 @@ class Clock:
 
 
 class ModuleOracle:
+    """`frame` is that of the callout that was made last, `lines` has the lines of all statements that were run."""
+
     def __init__(self, module, clock):
         self.module = module
         self.clock = clock
         self.shared = {name: value for name, _, value in module.variables}
         self.sizes = {name: size for name, size, _ in module.variables}
+        self.frame = None
+        self.lines = set()
 
     def shown(self):
         return tuple(self.shared[name] for name, _, _ in self.module.variables)
@@ -62,17 +66,20 @@ class ModuleOracle:
         entry = [entry for entry in self.module.entries if entry.name == name][0]
         own = {entry.parameter: value, **{slot: 0 for slot, _ in entry.slots}}
         sizes = {**self.sizes, entry.parameter: entry.arguments, **dict(entry.slots)}
+        head = f"entry {name} {entry.arguments} {entry.results} {entry.parameter}"
+        line = str(self.module).split("\n").index(head) + len(entry.slots) + 1
         try:
-            yield from self.body(entry.body, own, sizes)
+            yield from self.body(entry.body, own, sizes, line)
         except Failed:
             return -1
         except Ended as ended:
             return ended.result % entry.results
         return 0
 
-    def body(self, body, own, sizes):
+    def body(self, body, own, sizes, line):
         for statement in body:
-            yield from self.statement(statement, own, sizes)
+            yield from self.statement(statement, own, sizes, line)
+            line += str(statement).count("\n") + 1
 
     def value(self, expression, own):
         return expression.evaluate({**self.shared, **own})
@@ -80,18 +87,23 @@ class ModuleOracle:
     def put(self, name, value, own, sizes):
         (own if name in own else self.shared)[name] = value % sizes[name]
 
-    def statement(self, made, own, sizes):
+    def statement(self, made, own, sizes, line):
         self.clock.tick()
+        self.lines.add(line)
         if isinstance(made, statements.Assign):
             self.put(made.name, self.value(made.expression, own), own, sizes)
         elif isinstance(made, statements.If):
-            yield from self.body(made.body if self.value(made.test, own) else made.otherwise, own, sizes)
+            if self.value(made.test, own):
+                yield from self.body(made.body, own, sizes, line + 1)
+            else:
+                yield from self.body(made.otherwise, own, sizes, line + 2 + amount_of_lines(made.body))
         elif isinstance(made, statements.While):
             while self.value(made.test, own):
                 self.clock.tick()
-                yield from self.body(made.body, own, sizes)
+                yield from self.body(made.body, own, sizes, line + 1)
         elif isinstance(made, statements.Call):
             size = [callout for callout in self.module.callouts if callout[0] == made.name][0][1]
+            self.frame = (line, tuple(own.values()))
             answer = yield ("out", made.name, self.value(made.expression, own) % size)
             if answer == -1:
                 raise Failed
@@ -103,13 +115,17 @@ class ModuleOracle:
             raise Failed
         else:
             try:
-                yield from self.body(made.body, own, sizes)
+                yield from self.body(made.body, own, sizes, line + 1)
             except Failed:
                 failed = True
             else:
                 failed = False
             if failed:
-                yield from self.body(made.handler, own, sizes)
+                yield from self.body(made.handler, own, sizes, line + 2 + amount_of_lines(made.body))
+
+
+def amount_of_lines(body):
+    return sum(str(statement).count("\n") + 1 for statement in body)
 
 
 class BegunOracle:
@@ -299,6 +315,28 @@ class Maker:
             body = self.body(names, callouts, 1) + self.body(names, callouts, 1)
             made.append(Entry(name, arguments, results, "p", slots=slots, body=body))
         return Module(*made, variables=variables, callouts=callouts)
+
+    def nested_module(self):
+        """A module whose calls succeed only if calls back have succeeded, so that its shortest plays are long."""
+        chance = self.chance
+        lines = [
+            "variable l 4 3", "variable k 2 0", "callout c 1 1", "entry go 1 2 p", "  slot s 4", "  assign s l", "  if equal(l, 0)",
+            "    assign k not(k)" if chance.random() < 0.3 else "    assign k 1", "    return k", "  assign l minus(l, 1)",
+        ]
+        for _ in range(chance.randint(2, 4)):
+            lines += chance.choice((["  assign k 0"], ["  assign k 0"], ["  assign k not(k)"], []))
+            lines += ["  call c 0"]
+            lines += chance.choice((
+                ["  if not(k)", "    assign l s", "    return 0"], ["  if not(k)", "    assign l s", "    assign k 0", "    fail"],
+                ["  if k", "    assign l s", "    return 0"], [],
+            ))
+        lines += ["  assign l s", f"  assign k {chance.choice(('1', '1', '1', 'not(k)', 'k'))}", "  return k"]
+        if chance.random() < 0.4:
+            lines += ["entry on 1 2 p"] + chance.choice((
+                ["  if equal(l, 2)", "    assign k 1"], ["  assign k not(k)"], ["  if k", "    assign l 3"],
+                ["  call c 0", "  if k", "    assign l plus(l, 1)"],
+            ))
+        return Module.read("\n".join(lines))
 
     def rule(self, machine):
         chance = self.chance

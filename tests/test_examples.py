@@ -3,11 +3,17 @@ import pathlib
 import unittest
 
 from reentry import errors
+from reentry.always import breach, holds_always, is_kept, violation
+from reentry.depth import coming, deep_play, depth_of, play_to, used_lines
 from reentry.expressions import Below, Choose, Minus, Number, Variable, read_expression
+from reentry.likeness import alike, parting
 from reentry.machines import Guarded, Layered
 from reentry.modules import Module
+from reentry.plays import plays
 from reentry.rules import Rule
+from reentry.sessions import Session, responses_of
 from reentry.statements import Assign, Attempt, Call, Fail, If
+from reentry.tables import Table
 
 TEXT = (
     "variable n 4 0\ncallout changed 4 2\nentry add 2 4 k\n  if below(n, 3)\n    assign n plus(n, k)\n"
@@ -83,6 +89,90 @@ class TestExamples(unittest.TestCase):
         self.assertEqual(
             [module.enter((), "spin", 1), module.enter((), "spin", 0)],
             [(("hang",), (), None), (("back", -1), (), None)],
+        )
+
+    def test_tables(self):
+        one, two = Table(("changed", "get"), ("changed", "add")), Table(("changed", "get"))
+        self.assertEqual(
+            [
+                one.pairs, (one - two).pairs, two.within(one), one | two == one, ("changed", "get") in two, len(one & two),
+                repr(two), list(one),
+            ],
+            [
+                (("changed", "add"), ("changed", "get")), (("changed", "add"),), True, True, True, 1, "Table(1 pairs)",
+                [("changed", "add"), ("changed", "get")],
+            ],
+        )
+
+    def test_sessions(self):
+        module = Module.read(TEXT)
+        session = Session(module)
+        first = [
+            session.call("add", 1), session(("call", "add", 1)), session.pending, session.shown, session.call("get"),
+            session.fail(), session.answer(0),
+        ]
+        self.assertEqual(
+            first + [
+                session.pending, list(session.choices()), len(session),
+                responses_of(module, (("call", "add", 0), ("answer", 1))),
+            ],
+            [
+                ("out", "changed", 1), ("out", "changed", 2), ("changed", "changed"), (2,), ("back", 2), ("back", -1), ("back", 2),
+                (), [("call", "add", 0), ("call", "add", 1), ("call", "get", 0)], 5, (("out", "changed", 0), ("back", 0)),
+            ],
+        )
+
+    def test_plays(self):
+        module = Module.read("callout ask 1 1\nentry go 1 1 z\n  call ask 0")
+        self.assertEqual(list(plays(module, 2)), [
+            (), (("call", "go", 0),), (("call", "go", 0), ("answer", -1)), (("call", "go", 0), ("answer", 0)),
+            (("call", "go", 0), ("call", "go", 0)),
+        ])
+
+    def test_likeness(self):
+        early = (
+            "variable n 4 0\ncallout changed 4 2\nentry add 2 4 k\n  slot old 4\n  if below(n, 3)\n    assign n plus(n, k)\n"
+            "    assign old n\n    call changed n\n    return old\n  return n\nentry get 1 4 z\n  return n"
+        )
+        one, other = Module.read(TEXT), Module.read(early)
+        play = parting(one, other)
+        self.assertEqual(
+            [
+                alike(one, other), alike(one, other, Table()), alike(one, other, Table(("changed", "get"))), play.length,
+                responses_of(one, play.moves())[:3] == responses_of(other, play.moves())[:3],
+                responses_of(one, play.moves()) == responses_of(other, play.moves()),
+            ],
+            [False, True, True, 4, True, False],
+        )
+
+    def test_always(self):
+        module = Module.read(TEXT)
+        rule = Rule(((0, ("out", "changed"), 1), (1, ("out", "changed"), 2), (1, ("back", "add"), 0)), (2,))
+        self.assertEqual(
+            [
+                breach(module, read_expression("below(n, 3)")).length,
+                breach(module, read_expression("below(n, 3)"), Table()).length,
+                holds_always(module, read_expression("below(n, 4)")), is_kept(module, rule, Table()), violation(module, rule).length,
+            ],
+            [3, 5, True, True, 2],
+        )
+
+    def test_depth(self):
+        text = (
+            "variable busy 2 0\ncallout ask 1 2\nentry go 1 2 z\n  if busy\n    fail\n  assign busy 1\n  attempt\n    call ask 0\n"
+            "  else\n    assign busy 0\n    return 0\n  assign busy 0\n  return 1"
+        )
+        module = Module.read(text)
+        loose = Module.read("callout ask 1 1\nentry go 1 1 z\n  call ask 0")
+        self.assertEqual(
+            [
+                depth_of(module), depth_of(loose), depth_of(Guarded(loose)), deep_play(loose, 3).length, deep_play(module, 2),
+                coming(module), play_to(module, ("back", -1)).moves(), used_lines(module, Table()),
+            ],
+            [
+                1, None, 1, 3, None, (("back", -1), ("back", 0), ("back", 1), ("out", "ask", 0)),
+                (("call", "go", 0), ("call", "go", 0)), (3, 5, 6, 7, 9, 10, 11, 12),
+            ],
         )
 
     def test_readme(self):
