@@ -52,6 +52,16 @@ INTERFACE = {
         "Machine": ["enter", "resume", "values_in"], "Begun": ["__init__"], "Guarded": ["__init__"],
         "Watched": ["__init__"], "Layered": ["__init__"],
     }},
+    "tables": {"functions": [], "classes": {
+        "Table": "__init__ full allows __or__ __and__ __sub__ __contains__ within __len__ __iter__ __eq__ __repr__".split(),
+    }},
+    "sessions": {"functions": ["responses_of"], "classes": {
+        "Session": "__init__ call answer fail __call__ choices undo twin __len__".split(),
+    }},
+    "plays": {"functions": ["plays"], "classes": {"Play": "at part moves __repr__".split()}},
+    "likeness": {"functions": ["alike", "parting"], "classes": {}},
+    "always": {"functions": ["holds_always", "breach", "is_kept", "violation"], "classes": {}},
+    "depth": {"functions": ["depth_of", "deep_play", "coming", "play_to", "used_lines"], "classes": {}},
 }
 
 

@@ -5,17 +5,9 @@ from reentry import errors
 from reentry.modules import Module
 from tests.oracle import Maker
 from tests.plain_texts import is_text
+from tests.test_modules import LONG as MIXED, TEXT
 
-TEXT = (
-    "variable n 4 0\ncallout changed 4 2\nentry add 2 4 k\n  if below(n, 3)\n    assign n plus(n, k)\n"
-    "    call changed n\n  return n\nentry get 1 4 z\n  return n"
-)
-LONG = "\n".join([
-    "variable n 4 3", "variable m 2 0", "callout into 3 2", "callout b 1 40", "entry go 2 5 k", "  slot one 2",
-    "  slot slot 3", "  while below(n, 3)", "    assign n plus(n, k)", "    attempt", "      call into slot into one",
-    "      call b 0 into one", "    else", "      if one", "      else", "        fail", "  call into slot", "  return 7",
-    "entry x 1 1 into", "  return choose(both(n, not(m)), minus(into, times(10, 999)), either(equal(m, 1), 0))",
-])
+LONG = f"{MIXED}\n  return choose(both(n, not(m)), minus(into, times(10, 999)), either(equal(m, 1), 0))"
 SIGNS = ["", " ", "\n", "0", "1", "n", "(", ",", "A", "-"]
 
 
