@@ -56,8 +56,9 @@ def links_from(rows, door):
     links = {}
     for turn, way in rows.ways[door].items():
         for further in rows.steps.doors_at(turn):
-            if rows.ways[further] and (further not in links or way.length < links[further].length):
-                links[further] = way
+            if rows.ways[further]:
+                # The shortest ways come first.
+                links.setdefault(further, way)
     return links
 
 
@@ -92,8 +93,8 @@ def next_level(links, level):
 
 
 def nearest_way(rows, door):
-    """A shortest piece from a call of this door to a turn."""
-    return min(list(rows.ways[door].values()), key=lambda piece: piece.length)
+    """A shortest piece from a call of this door to a turn: the shortest ways come first."""
+    return list(rows.ways[door].values())[0]
 
 
 def nearest_of(pieces):

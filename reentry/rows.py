@@ -15,13 +15,14 @@ class Rows:
     """The tables of a system under a table of calls back, with a shortest piece of a play for each row.
 
     `calls` has the door of each call. `hops` has for each door the stores behind its calls that have ended,
-    `ways` the turns that its calls come to, each with a shortest piece that begins with a call of the door.
-    `held` has for each door the places at which its calls are made, each with its piece.
+    `ways` the turns that its calls come to, each with a shortest piece that begins with a call of the door, and
+    the shortest ones first. `held` has for each door the places at which its calls are made, each with its piece.
 
-    A row follows from other rows, and its piece consists of theirs, so that the pieces of all rows are shortest
-    ones if the shortest one that is on offer is always taken first. It does no harm that the offers begin again
-    with short ones when a call is first made: what follows from the rows of this call also follows from a place
-    at which it is made, and nothing longer than that place has been taken before.
+    A row follows from other rows, and its piece consists of theirs. The shortest piece on offer is always taken
+    first. When one is taken, all rows with shorter ones, of the calls that were made so far, have been taken: the
+    rows that they follow from were taken before them, and have offered them. That stays so when a call is first
+    made, though offers begin again with short ones then, since it is a place that was taken that makes it. So
+    each piece that is taken is a shortest one.
     """
 
     def __init__(self, system, table):

@@ -144,68 +144,100 @@ def part_of_full(machine, chance):
     return Table(*[pair for pair in Table.full(machine) if chance.random() < 0.6])
 
 
-def lengths_of(machine, table):
-    """For each turn (frame, store), with None as the frame if nothing is pending, the length of a shortest play.
+class Lengths:
+    """Lengths of shortest plays, which are lowered until all of them agree with one another.
 
-    Lengths are lowered until all of them agree with one another.
+    `inside` has them for places (call, frame, store) and for ends (call, None, store), from the calls on. `turns`
+    has them for turns (frame, store), with None as the frame if nothing is pending, from the beginning on.
     """
-    grounds, places, ends = tables_of(machine, table)
-    entries = {name: arguments for name, arguments, _ in machine.face.entries}
-    answers = {name: many for name, _, many in machine.face.callouts}
-    steps, callouts, inside = {}, {}, {}
-    for call in {call for call, _ in places | ends} | {(s, e, v) for s in grounds for e in entries for v in range(entries[e])}:
-        steps[call] = machine.enter(*call)
-    for call, (response, _, frame) in steps.items():
-        if response is not None and response[0] == "out":
-            callouts[frame] = response[1]
-    resumed = {}
-    while len(resumed) < len({place for _, place in places}):
-        for _, (frame, store) in places:
-            if frame in callouts and (frame, store) not in resumed:
-                resumed[(frame, store)] = [machine.resume(store, frame, answer) for answer in range(-1, answers[callouts[frame]])]
-                for response, _, further in resumed[(frame, store)]:
-                    if response is not None and response[0] == "out":
-                        callouts[further] = response[1]
 
-    def calls_at(frame, store):
+    def __init__(self, machine, table):
+        self.machine, self.table = machine, table
+        self.entries = {name: arguments for name, arguments, _ in machine.face.entries}
+        self.answers = {name: many for name, _, many in machine.face.callouts}
+        self.callouts, self.resumed, self.inside, self.turns = {}, {}, {}, {}
+        grounds, places, ends = tables_of(machine, table)
+        calls = {call for call, _ in places | ends} | {call for store in grounds for call in self.calls_at(None, store)}
+        for call in calls:
+            self.put(call, machine.enter(*call), 1)
+        self.run_answers({place for _, place in places})
+        while self.lower_inside():
+            pass
+        self.turns[(None, machine.first)] = 0
+        while self.lower_turns():
+            pass
+
+    def put(self, call, step, length):
+        """A step of a call of this length; whether a length is lowered."""
+        response, store, frame = step
+        if response is None or response == HANG:
+            return False
+        if response[0] == "out":
+            self.callouts[frame] = response[1]
+        return self.lower(self.inside, (call, frame, store), length)
+
+    def lower(self, lengths, key, length):
+        if key in lengths and lengths[key] <= length:
+            return False
+        lengths[key] = length
+        return True
+
+    def run_answers(self, places):
+        while len(self.resumed) < len(places):
+            for frame, store in places:
+                if frame in self.callouts and (frame, store) not in self.resumed:
+                    many = self.answers[self.callouts[frame]]
+                    steps = [self.machine.resume(store, frame, answer) for answer in range(-1, many)]
+                    self.resumed[(frame, store)] = steps
+                    for response, _, further in steps:
+                        if response is not None and response[0] == "out":
+                            self.callouts[further] = response[1]
+
+    def calls_at(self, frame, store):
         return [
-            (store, entry, value) for entry in entries
-            if frame is None or table is None or (callouts[frame], entry) in table.pairs for value in range(entries[entry])
+            (store, entry, value) for entry in self.entries
+            if frame is None or self.table is None or (self.callouts[frame], entry) in self.table.pairs
+            for value in range(self.entries[entry])
         ]
 
-    def lower(lengths, key, length):
-        if length < lengths.get(key, length + 1):
-            lengths[key] = length
-            return True
-        return False
-
-    # `inside` has the lengths of places (call, frame, store), and of ends (call, None, store), from their calls on.
-    for call, (response, store, frame) in steps.items():
-        if response is not None and response[0] != "hang":
-            inside[(call, frame, store)] = 1
-    changed = True
-    while changed:
-        changed = False
-        behind = {}
-        for (call, frame, store), length in inside.items():
+    def lower_inside(self):
+        changed, behind = False, {}
+        for (call, frame, store), length in self.inside.items():
             if frame is None:
                 behind.setdefault(call, []).append((store, length))
-        for (call, frame, store), length in list(inside.items()):
-            if frame is None:
-                continue
-            for nested in calls_at(frame, store):
-                for after, more in behind.get(nested, ()):
-                    changed |= lower(inside, (call, frame, after), length + more)
-            for response, after, further in resumed[(frame, store)]:
-                if response is not None and response[0] != "hang":
-                    changed |= lower(inside, (call, further, after), length + 1)
-    turns = {(None, machine.first): 0}
-    changed = True
-    while changed:
+        for (call, frame, store), length in list(self.inside.items()):
+            if frame is not None:
+                for nested in self.calls_at(frame, store):
+                    for after, more in behind.get(nested, ()):
+                        changed |= self.lower(self.inside, (call, frame, after), length + more)
+                for step in self.resumed[(frame, store)]:
+                    changed |= self.put(call, step, length + 1)
+        return changed
+
+    def lower_turns(self):
         changed = False
-        for (frame, store), length in list(turns.items()):
-            nested = calls_at(frame, store)
-            for (call, further, after), more in inside.items():
+        for (frame, store), length in list(self.turns.items()):
+            nested = self.calls_at(frame, store)
+            for (call, further, after), more in self.inside.items():
                 if call in nested and (further is not None or frame is None):
-                    changed |= lower(turns, (further, after), length + more)
-    return turns
+                    changed |= self.lower(self.turns, (further, after), length + more)
+        return changed
+
+    def deep(self, most):
+        """For each number of pending callouts up to `most` the length of a shortest play to it; None if there is none."""
+        found, made = [0], {}
+        for (frame, store), length in self.turns.items():
+            if frame is None:
+                for call in self.calls_at(None, store):
+                    self.lower(made, call, length)
+        for _ in range(most):
+            level = {}
+            for (call, frame, store), length in self.inside.items():
+                if call in made and frame is not None:
+                    self.lower(level, (frame, store), made[call] + length)
+            found.append(min(level.values(), default=None))
+            made = {}
+            for (frame, store), length in level.items():
+                for call in self.calls_at(frame, store):
+                    self.lower(made, call, length)
+        return found

@@ -3,7 +3,7 @@ import random
 import unittest
 
 from reentry import errors
-from reentry.expressions import Choose, Number, Plus, Variable
+from reentry.expressions import Choose, Plus, Variable
 from reentry.modules import Entry, Module
 from reentry.statements import Assign, Attempt, Call, Fail, If, Return, While
 from tests.values import any_values, check_error

@@ -13,13 +13,13 @@ from reentry.rules import Rule
 from reentry.sessions import Session, responses_of
 from reentry.tables import Table, table_for
 from tests.oracle import Maker, OracleSession
-from tests.plain import HANG, Pair, Search, lengths_of, moves_at, part_of_full, tables_of
+from tests.plain import HANG, Lengths, Pair, Search, moves_at, part_of_full, tables_of
 
 MOST = 5
 
 
 def program_lengths(system, table):
-    """What `lengths_of` gives, from the program."""
+    """The lengths of shortest plays to all turns, from the program."""
     routes = Routes(Rows(system, table))
     steps = routes.rows.steps
     frames, stores = {None: None, **dict(enumerate(steps.waits.things))}, steps.stores.things
@@ -36,9 +36,12 @@ class TestTables(unittest.TestCase):
         system = Beside(machine.one, machine.other) if isinstance(machine, Pair) else machine
         given = table_for(system.one if isinstance(system, Beside) else system, table)
         self.assertEqual(Rows(system, given).many, sum(len(part) for part in tables))
-        lengths = lengths_of(machine, table)
-        self.assertEqual(program_lengths(system, given), lengths)
-        seen.append(max(lengths.values()))
+        lengths = Lengths(machine, table)
+        self.assertEqual(program_lengths(system, given), lengths.turns)
+        seen.append(max(lengths.turns.values()))
+        if not isinstance(machine, Pair):
+            deep = [deep_play(machine, many, table) for many in range(9)]
+            self.assertEqual([None if play is None else play.length for play in deep], lengths.deep(8))
 
     def test_modules_and_machines(self):
         seen = []
@@ -197,7 +200,7 @@ class TestSearches(unittest.TestCase):
             self.assertEqual(used, tuple(sorted(used)))
             lines, tops = self.lines_of_plays(module, table, Search(module, table, 4))
             self.assertLessEqual(lines, set(used))
-            if set(lengths_of(module, table)) == tops:
+            if set(Lengths(module, table).turns) == tops:
                 self.assertEqual(lines, set(used))
                 exact += 1
                 less += len(lines) < sum(entry.body != () for entry in module.entries) + module.amount
