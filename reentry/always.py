@@ -16,12 +16,21 @@ def holds_always(machine, condition, during=None):
 def breach(machine, condition, during=None):
     """A shortest play behind which a condition is false at the surroundings' turn; None if it holds always."""
     check_machine(machine)
+    check_condition(machine, condition)
+    return breach_in(Rows(machine, table_for(machine, during)), machine, condition)
+
+
+def check_condition(machine, condition):
+    """Raise the error for a value that is not an expression over variables of a machine."""
     check_expression(condition)
     names = [variable[0] for variable in machine.variables]
     for name in condition.names:
         if name not in names:
             raise UnknownName(None, name)
-    rows = Rows(machine, table_for(machine, during))
+
+
+def breach_in(rows, machine, condition):
+    """What `breach` returns, from the tables of the machine."""
     false = false_stores(machine, condition, rows.steps.stores.things)
     if not false:
         return None

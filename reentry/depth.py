@@ -1,9 +1,9 @@
 """How deep calls can be nested, which responses can come, and which lines are used."""
 
-from reentry.errors import InvalidResponse, NotAModule
+from reentry.errors import InvalidResponse
 from reentry.limits import MAX_ASKED
 from reentry.machines import HANG, check_machine
-from reentry.modules import Module
+from reentry.modules import check_module
 from reentry.names import is_integer, is_name
 from reentry.pieces import joined, length_of
 from reentry.plays import Play, check_count
@@ -15,21 +15,35 @@ from reentry.tables import table_for
 def depth_of(machine, during=None):
     """The greatest number of pending callouts; None if there is none."""
     check_machine(machine)
-    rows = Rows(machine, table_for(machine, during))
+    return depth_in(Rows(machine, table_for(machine, during)))
+
+
+def depth_in(rows):
+    """The greatest number of pending callouts in these tables; None if there is none."""
+    levels = levels_of(rows)
+    return None if levels is None else max(levels.values(), default=0)
+
+
+def levels_of(rows):
+    """How deep calls of doors can be nested, from 1 on, for all doors that have calls which come to a turn.
+
+    None if they can be nested without end.
+    """
     links = links_of(rows)
     before = {door: 0 for door in links}
     for following in links.values():
         for door in following:
             before[door] += 1
-    levels = 0
-    passed = 0
+    levels = {}
+    number = 0
     level = [door for door in links if before[door] == 0]
     while level:
-        levels += 1
-        passed += len(level)
+        number += 1
+        for door in level:
+            levels[door] = number
         level = doors_freed(links, level, before)
-    # Doors that are left stand in a ring: their calls can be nested without end.
-    return levels if passed == len(links) else None
+    # Doors that are left stand in a ring, or behind one.
+    return levels if len(levels) == len(links) else None
 
 
 def doors_freed(links, level, before):
@@ -135,9 +149,12 @@ def is_response(value):
 
 def used_lines(module, during=None):
     """The lines of the statements that some play runs, ascending."""
-    if not isinstance(module, Module):
-        raise NotAModule(module)
-    rows = Rows(module, table_for(module, during))
+    check_module(module)
+    return lines_in(module, Rows(module, table_for(module, during)))
+
+
+def lines_in(module, rows):
+    """The lines of the statements that the calls and answers of these tables run, ascending."""
     steps = rows.steps
     lines = {}
     for store, entry in rows.hops:

@@ -13,7 +13,11 @@ def alike(one, other, during=None):
 
 def parting(one, other, during=None):
     """A shortest play whose last responses alone differ; None if the machines are alike."""
-    rows = rows_of_both(one, other, during)
+    return parting_in(rows_of_both(one, other, during))
+
+
+def parting_in(rows):
+    """What `parting` returns, from the tables of both machines."""
     if not can_part(rows):
         return None
     return Routes(rows).play_to_step(lambda turn, step: step[1] == PARTED)

@@ -8,6 +8,7 @@ from reentry.errors import (
     InvalidText,
     InvalidVariables,
     LimitError,
+    NotAModule,
     ReentryError,
     SharedName,
     TooLarge,
@@ -127,6 +128,12 @@ class Module(Machine):
 
     def __repr__(self):
         return f"Module({len(self.entries)} entries, {self.amount} statements)"
+
+
+def check_module(value):
+    """Raise the error for a value that is not a module."""
+    if not isinstance(value, Module):
+        raise NotAModule(value)
 
 
 def check_size(value):

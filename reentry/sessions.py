@@ -119,7 +119,18 @@ class Session:
 
 def responses_of(machine, moves, during=None):
     """The responses of a play."""
+    return tuple([response for _, response in played(machine, moves, during).log])
+
+
+def played(machine, moves, during=None):
+    """A new session in which the moves of a play were made."""
     session = Session(machine, during)
+    make_moves(session, moves)
+    return session
+
+
+def make_moves(session, moves):
+    """Make these moves in a session; an error if they are not a tuple of moves that can be made."""
     if not isinstance(moves, tuple):
         raise InvalidMoves(None)
     for index, move in enumerate(moves):
@@ -127,4 +138,3 @@ def responses_of(machine, moves, during=None):
             session(move)
         except (Over, InvalidMove, NotAllowed):
             raise InvalidMoves(index) from None
-    return tuple([response for _, response in session.log])

@@ -66,6 +66,13 @@ def is_pair(value):
     return isinstance(value, tuple) and len(value) == 2 and is_name(value[0]) and is_name(value[1])
 
 
+def is_pair_of(face, value):
+    """Whether any value is a pair of a callout and an entry of a face."""
+    if not isinstance(value, tuple) or len(value) != 2:
+        return False
+    return face.callout_named(value[0]) is not None and face.entry_named(value[1]) is not None
+
+
 def check_pairs(pairs):
     """Raise the error for a tuple that is not one of different pairs of names."""
     taken = {}
@@ -87,6 +94,6 @@ def table_for(machine, during):
         return Table.full(machine)
     check_table(during)
     for pair in during.pairs:
-        if machine.face.callout_named(pair[0]) is None or machine.face.entry_named(pair[1]) is None:
+        if not is_pair_of(machine.face, pair):
             raise UnknownPair(pair)
     return during

@@ -6,6 +6,7 @@ A generator is resumed with the answers, so nothing of the program's steps, stor
 import random
 
 from reentry import statements
+from reentry.errors import InvalidText
 from reentry.expressions import (
     Below, Both, Choose, Either, Equal, Minus, Not, Number, Plus, Times, Variable,
 )
@@ -374,3 +375,22 @@ class Maker:
         for index in range(self.chance.randint(0, 2)):
             machine = self.layered(machine, str(index + 2), 2 - index)
         return machine
+
+    def others(self, machine):
+        """Machines with the same face."""
+        chance = self.chance
+        found = [machine, Guarded(machine), Watched(machine, self.rule(machine))]
+        if machine.variables:
+            found.append(Begun(machine, tuple(chance.randrange(size) for _, size, _ in machine.variables)))
+        if isinstance(machine, Module):
+            lines = list(machine.lines)
+            for _ in range(6):
+                index = chance.randrange(len(lines))
+                for old, new in (("plus", "minus"), (" 1", " 2"), ("below", "equal"), ("fail", "return 0"), (" 0", " 1"), ("not(k)", "k")):
+                    if lines[index].startswith(" ") and old in lines[index]:
+                        try:
+                            other = Module.read("\n".join(lines[:index] + [lines[index].replace(old, new)] + lines[index + 1:]))
+                        except InvalidText:
+                            continue
+                        found.append(other)
+        return found

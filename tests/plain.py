@@ -85,14 +85,16 @@ class Search:
         return min(found, key=len) if found else None
 
 
-def tables_of(machine, table, most=None):
+def tables_of(machine, table, most=None, callouts=None):
     """The grounds, places and ends of point 26 that begin with the first store, as sets, without hurry.
 
-    Rules are applied until nothing comes of them; None if there come to be more than `most` rows.
+    Rules are applied until nothing comes of them; None if there come to be more than `most` rows. A dict that is
+    passed as `callouts` gets the callouts of all frames.
     """
+    callouts = {} if callouts is None else callouts
     entries = {name: arguments for name, arguments, _ in machine.face.entries}
     answers = {name: many for name, _, many in machine.face.callouts}
-    grounds, places, ends, callouts = {machine.first}, set(), set(), {}
+    grounds, places, ends = {machine.first}, set(), set()
     covered, before = set(), None
 
     def put(call, response, store, frame):
@@ -135,6 +137,47 @@ def tables_of(machine, table, most=None):
             if store in grounds:
                 grounds.add(after)
     return grounds, places, ends
+
+
+class Everything:
+    """All calls and answers that plays make, with what they lead to, by stores and frames.
+
+    `turns` has all pairs of the frame of the callout that became pending last and a store.
+    """
+
+    def __init__(self, machine, table):
+        self.machine, self.table, self.callouts = machine, table, {}
+        grounds, places, _ = tables_of(machine, table, None, self.callouts)
+        self.turns = {place for _, place in places}
+        self.calls, self.answers = {}, {}
+        for store in grounds:
+            self.make_calls(store, [entry for entry, _, _ in machine.face.entries])
+        for frame, store in self.turns:
+            self.make_calls(store, self.entries_at(frame))
+            for answer in self.answers_to(frame):
+                self.answers[(frame, store, answer)] = machine.resume(store, frame, answer)
+
+    def entries_at(self, frame):
+        callout = self.callouts[frame]
+        return [entry for entry, _, _ in self.machine.face.entries if self.table is None or (callout, entry) in self.table.pairs]
+
+    def answers_to(self, frame):
+        return range(-1, [many for name, _, many in self.machine.face.callouts if name == self.callouts[frame]][0])
+
+    def values_of(self, entry):
+        return range([arguments for name, arguments, _ in self.machine.face.entries if name == entry][0])
+
+    def make_calls(self, store, entries):
+        for entry in entries:
+            for value in self.values_of(entry):
+                self.calls[(store, entry, value)] = self.machine.enter(store, entry, value)
+
+    def responses(self):
+        return {step[0] for step in [*self.calls.values(), *self.answers.values()]}
+
+
+def are_alike(one, other, table):
+    return None not in Everything(Pair(one, other), table).responses()
 
 
 def part_of_full(machine, chance):

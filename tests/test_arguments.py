@@ -76,37 +76,44 @@ def right_arguments(parameters, machine):
     return {name: machine if name in ("one", "other", "machine", "module") else value for name, value, _ in parameters}
 
 
-class TestWrongArguments(unittest.TestCase):
-    def check(self, function, parameters, machine, chosen):
-        """Check the error of the first one of the chosen wrong arguments, by position and by name."""
-        given = {**right_arguments(parameters, machine), **{name: wrong[0] for name, wrong in chosen.items()}}
-        first = next(wrong for name, _, _ in parameters for key, wrong in chosen.items() if key == name)
-        kind = getattr(errors, first[1])
-        check_error(self, kind, first[2], function, *given.values())
-        check_error(self, kind, first[2], function, **dict(reversed(given.items())))
-        positions = list(given.values())
-        names = list(given)
-        check_error(self, kind, first[2], function, positions[0], **dict(zip(names[1:], positions[1:])))
+def check_wrong(test, function, parameters, machine, chosen):
+    """Check the error of the first one of the chosen wrong arguments, by position and by name."""
+    given = {**right_arguments(parameters, machine), **{name: wrong[0] for name, wrong in chosen.items()}}
+    first = next(wrong for name, _, _ in parameters for key, wrong in chosen.items() if key == name)
+    kind = getattr(errors, first[1])
+    check_error(test, kind, first[2], function, *given.values())
+    check_error(test, kind, first[2], function, **dict(reversed(given.items())))
+    positions = list(given.values())
+    names = list(given)
+    check_error(test, kind, first[2], function, positions[0], **dict(zip(names[1:], positions[1:])))
 
+
+def several(parameters, chance, times):
+    """Choices of wrong arguments for two and more parameters."""
+    names = [name for name, _, _ in parameters]
+    for many in range(2, len(names) + 1):
+        for places in itertools.combinations(names, many):
+            for _ in range(times):
+                chosen = {name: chance.choice(wrong) for name, _, wrong in parameters if name in places}
+                if chosen.get("one") and chosen.get("other") and chosen["other"][1] == "FacesDiffer":
+                    del chosen["other"]
+                yield chosen
+
+
+class TestWrongArguments(unittest.TestCase):
     def test_each_wrong_argument(self):
         for function, parameters in FUNCTIONS:
             for name, _, wrong in parameters:
                 for row in wrong:
                     for machine in (SMALL, ABOVE):
                         if row[1] in ("UnknownPair", "FacesDiffer") or machine is SMALL or name != "condition":
-                            self.check(function, parameters, machine, {name: row})
+                            check_wrong(self, function, parameters, machine, {name: row})
 
     def test_several_wrong_arguments(self):
         chance = random.Random(2)
         for function, parameters in FUNCTIONS:
-            names = [name for name, _, _ in parameters]
-            for many in range(2, len(names) + 1):
-                for places in itertools.combinations(names, many):
-                    for _ in range(15):
-                        chosen = {name: chance.choice(wrong) for name, _, wrong in parameters if name in places}
-                        if chosen.get("one") and chosen.get("other") and chosen["other"][1] == "FacesDiffer":
-                            del chosen["other"]
-                        self.check(function, parameters, SMALL, chosen)
+            for chosen in several(parameters, chance, 15):
+                check_wrong(self, function, parameters, SMALL, chosen)
 
     def test_values_of_any_kind(self):
         is_machine = lambda value: isinstance(value, Machine)

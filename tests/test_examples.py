@@ -4,20 +4,28 @@ import unittest
 
 from reentry import errors
 from reentry.always import breach, holds_always, is_kept, violation
+from reentry.clients import client_of, linked
 from reentry.depth import coming, deep_play, depth_of, play_to, used_lines
 from reentry.expressions import Below, Choose, Minus, Number, Variable, read_expression
+from reentry.harmless import greatest_tables, least_tables
 from reentry.likeness import alike, parting
 from reentry.machines import Guarded, Layered
 from reentry.modules import Module
 from reentry.plays import plays
 from reentry.rules import Rule
 from reentry.sessions import Session, responses_of
+from reentry.shorter import shorter, without
 from reentry.statements import Assign, Attempt, Call, Fail, If
 from reentry.tables import Table
+from reentry.waiting import can_wait, is_quiet, obstacle, put_off
 
 TEXT = (
     "variable n 4 0\ncallout changed 4 2\nentry add 2 4 k\n  if below(n, 3)\n    assign n plus(n, k)\n"
     "    call changed n\n  return n\nentry get 1 4 z\n  return n"
+)
+EARLY = (
+    "variable n 4 0\ncallout changed 4 2\nentry add 2 4 k\n  slot old 4\n  if below(n, 3)\n    assign n plus(n, k)\n"
+    "    assign old n\n    call changed n\n    return old\n  return n\nentry get 1 4 z\n  return n"
 )
 
 
@@ -130,11 +138,7 @@ class TestExamples(unittest.TestCase):
         ])
 
     def test_likeness(self):
-        early = (
-            "variable n 4 0\ncallout changed 4 2\nentry add 2 4 k\n  slot old 4\n  if below(n, 3)\n    assign n plus(n, k)\n"
-            "    assign old n\n    call changed n\n    return old\n  return n\nentry get 1 4 z\n  return n"
-        )
-        one, other = Module.read(TEXT), Module.read(early)
+        one, other = Module.read(TEXT), Module.read(EARLY)
         play = parting(one, other)
         self.assertEqual(
             [
@@ -173,6 +177,51 @@ class TestExamples(unittest.TestCase):
                 1, None, 1, 3, None, (("back", -1), ("back", 0), ("back", 1), ("out", "ask", 0)),
                 (("call", "go", 0), ("call", "go", 0)), (3, 5, 6, 7, 9, 10, 11, 12),
             ],
+        )
+
+    def test_harmless(self):
+        one, other = Module.read(TEXT), Module.read(EARLY)
+        pairs = (("changed", "add"), ("changed", "get"))
+        good, bad = greatest_tables(one, other, pairs), least_tables(one, other, pairs)
+        self.assertEqual(
+            [len(good), good[0].pairs, len(bad), bad[0].pairs], [1, (("changed", "get"),), 1, (("changed", "add"),)],
+        )
+
+    def test_waiting(self):
+        module = Module.read(
+            "variable n 4 0\ncallout ask 1 1\nentry go 1 2 z\n  call ask 0\n  return 1\nentry set 4 4 k\n  assign n k\n  return k\n"
+            "entry get 1 4 z\n  return n"
+        )
+        moves = (("call", "go", 0), ("call", "set", 3), ("call", "get", 0), ("answer", 0))
+        self.assertEqual(
+            [
+                can_wait(module, ("set", "get")), put_off(module, ("get", "set"), moves), can_wait(module, ("go",)),
+                obstacle(module, ("go",))[1], is_quiet(module, "set"), is_quiet(module, "go"),
+            ],
+            [
+                True, (("call", "go", 0), ("answer", 0), ("call", "set", 3), ("call", "get", 0)), False, ("call", "go", 0), True,
+                False,
+            ],
+        )
+
+    def test_shorter(self):
+        module = Module.read("variable n 2 0\nentry go 1 2 z\n  assign n 1\n  if equal(n, 0)\n    return 0\n  return 1")
+        self.assertEqual(
+            [str(without(module, 3)), str(shorter(module))],
+            ["variable n 2 0\nentry go 1 2 z\n  assign n 1\n  return 1", "variable n 2 0\nentry go 1 2 z\n  return 1"],
+        )
+
+    def test_clients(self):
+        one, other = Module.read(TEXT), Module.read(EARLY)
+        play = parting(one, other)
+        client = client_of(one, play.moves())
+        first, second = linked(one, client, "main", 50), linked(other, client, "main", 50)
+        self.assertEqual(
+            [
+                len(first[0]), first[0][0][0] == play.at(0), first[1], second[1], first[0][:3] == second[0][:3], first[0] == second[0],
+                linked(one, client, "main", 2)[1],
+            ],
+            [4, True, "done", "done", True, False, "cut"],
         )
 
     def test_readme(self):

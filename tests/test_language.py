@@ -62,6 +62,10 @@ INTERFACE = {
     "likeness": {"functions": ["alike", "parting"], "classes": {}},
     "always": {"functions": ["holds_always", "breach", "is_kept", "violation"], "classes": {}},
     "depth": {"functions": ["depth_of", "deep_play", "coming", "play_to", "used_lines"], "classes": {}},
+    "harmless": {"functions": ["greatest_tables", "least_tables"], "classes": {}},
+    "waiting": {"functions": ["is_quiet", "can_wait", "obstacle", "put_off"], "classes": {}},
+    "shorter": {"functions": ["without", "shorter"], "classes": {}},
+    "clients": {"functions": ["client_of", "linked"], "classes": {}},
 }
 
 

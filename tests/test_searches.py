@@ -3,7 +3,7 @@ import unittest
 from reentry.always import breach, holds_always, is_kept, violation
 from reentry.beside import Beside
 from reentry.depth import coming, deep_play, depth_of, play_to, used_lines
-from reentry.errors import InvalidText, TooLarge
+from reentry.errors import TooLarge
 from reentry.likeness import alike, parting
 from reentry.machines import Begun, Guarded, Watched
 from reentry.modules import Module
@@ -207,28 +207,9 @@ class TestSearches(unittest.TestCase):
         self.assertGreater(exact, 60)
         self.assertGreater(less, 30)
 
-    def others(self, maker, machine):
-        """Machines with the same face."""
-        chance = maker.chance
-        found = [machine, Guarded(machine), Watched(machine, maker.rule(machine))]
-        if machine.variables:
-            found.append(Begun(machine, tuple(chance.randrange(size) for _, size, _ in machine.variables)))
-        if isinstance(machine, Module):
-            lines = list(machine.lines)
-            for _ in range(6):
-                index = chance.randrange(len(lines))
-                for old, new in (("plus", "minus"), (" 1", " 2"), ("below", "equal"), ("fail", "return 0"), (" 0", " 1"), ("not(k)", "k")):
-                    if lines[index].startswith(" ") and old in lines[index]:
-                        try:
-                            other = Module.read("\n".join(lines[:index] + [lines[index].replace(old, new)] + lines[index + 1:]))
-                        except InvalidText:
-                            continue
-                        found.append(other)
-        return found
-
     def test_likeness(self):
         for maker, machine, table, _ in self.machines(range(150)):
-            for other in self.others(maker, machine):
+            for other in maker.others(machine):
                 pair = Pair(machine, other)
                 if tables_of(pair, table, 800) is None:
                     continue
@@ -247,7 +228,7 @@ class TestSearches(unittest.TestCase):
         for seed in range(60):
             maker = Maker(seed)
             machine = maker.nested_module() if seed % 2 else maker.module()
-            for other in self.others(maker, machine):
+            for other in maker.others(machine):
                 full = Table.full(machine)
                 tables = [Table(), part_of_full(machine, maker.chance) or full, full]
                 tables.insert(1, tables[1] & Table(*list(full)[::2]))
