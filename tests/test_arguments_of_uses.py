@@ -4,18 +4,23 @@ import random
 import unittest
 
 from reentry import errors
+from reentry.certificates import certify_always, certify_alike, certify_depth
+from reentry.checker import holds
 from reentry.clients import client_of, linked
 from reentry.harmless import greatest_tables, least_tables
+from reentry.expressions import read_expression
 from reentry.likeness import alike
 from reentry.machines import Begun, Guarded, Watched
 from reentry.modules import Module
+from reentry.reports import listing, summary
 from reentry.rows import Rows
 from reentry.rules import Rule
 from reentry.shorter import shorter, without
 from reentry.tables import Table, table_for
 from reentry.waiting import can_wait, is_quiet, obstacle, put_off
 from tests.test_arguments import (
-    ABOVE, ASKING, DIFFERENT, FULL, MACHINES, MODULES, SMALL, TABLES, check_wrong, large, right_arguments, several,
+    ABOVE, ASKING, DIFFERENT, EXPRESSIONS, FULL, MACHINES, MODULES, OTHER_FACE, SMALL, TABLES, TRUE, check_wrong, large, right_arguments,
+    several,
 )
 from tests.values import check_error
 
@@ -53,6 +58,11 @@ FUNCTIONS = [
     (shorter, [("module", None, MODULES), ("during", None, TABLES)]),
     (client_of, [("machine", None, MACHINES), ("moves", (), MOVES + LONG), ("start", "main", STARTS)]),
     (linked, [("machine", None, MACHINES), ("client", CLIENT, MODULES), ("start", "main", OTHERS), ("most", 0, COUNTS)]),
+    (summary, [("machine", None, MACHINES), ("during", None, TABLES)]),
+    (certify_alike, [("one", None, MODULES), ("other", None, MODULES + [(OTHER_FACE, "FacesDiffer", {})]), ("during", None, TABLES)]),
+    (certify_always, [("module", None, MODULES), ("condition", TRUE, EXPRESSIONS), ("during", None, TABLES)]),
+] + [
+    (function, [("module", None, MODULES), ("during", None, TABLES)]) for function in (listing, certify_depth)
 ]
 
 
@@ -74,11 +84,18 @@ class TestWrongArguments(unittest.TestCase):
         self.assertIs(is_quiet(SMALL, "go"), False)
         self.assertEqual(shorter(SMALL), SMALL)
         self.assertEqual(client_of(SMALL, ()).entries[0].name, "main")
+        self.assertEqual([summary(SMALL), listing(SMALL)], [summary(SMALL, None), listing(SMALL, None)])
+        for proof in (certify_alike(SMALL, SMALL), certify_always(SMALL, TRUE), certify_depth(SMALL)):
+            self.assertIs(holds(*proof), True)
 
     def test_modules_alone(self):
         for machine in (Guarded(SMALL), Begun(SMALL, (0,)), Watched(SMALL, Rule((), ()))):
             check_error(self, errors.NotAModule, {"value": machine}, without, machine, 3)
-            check_error(self, errors.NotAModule, {"value": machine}, shorter, machine)
+            for function in (shorter, listing, certify_depth):
+                check_error(self, errors.NotAModule, {"value": machine}, function, machine)
+            check_error(self, errors.NotAModule, {"value": machine}, certify_alike, machine, OTHER_FACE)
+            check_error(self, errors.NotAModule, {"value": machine}, certify_alike, OTHER_FACE, machine)
+            check_error(self, errors.NotAModule, {"value": machine}, certify_always, machine, 5)
             check_error(self, errors.NotAModule, {"value": machine}, linked, SMALL, machine, "main", 1)
             self.assertEqual(linked(machine, CLIENT, "main", 1)[0], ((GO, ("out", "c", 0)),))
 
@@ -106,11 +123,31 @@ class TestTooLarge(unittest.TestCase):
             for table in (None, Table()):
                 self.check(is_large, is_quiet, machine, "e0", table)
             self.check(is_large, put_off, machine, ("e1",), (("call", "e0", 1),))
+            self.check(is_large, summary, machine)
+            self.check(is_large, summary, machine, Table())
             # Clients are made and linked without tables.
             client = client_of(machine, (("call", "e0", 1),))
             self.assertEqual(linked(machine, client, "main", 3), (((("call", "e0", 1), ("back", 0)),), "done"))
 
+    def test_modules(self):
+        for module, is_large in ((FULL, False), (ABOVE, True)):
+            for table in (None, Table()):
+                self.check(is_large, listing, module, table)
+                self.check(is_large, certify_alike, module, module, table)
+                self.check(is_large, certify_depth, module, table)
+                # It does not matter that the condition is false at the beginning already.
+                for condition in (TRUE, read_expression("a"), read_expression("0")):
+                    self.check(is_large, certify_always, module, condition, table)
+        self.assertEqual(certify_always(FULL, read_expression("a"))[1], ())
+        self.assertEqual(sum(len(rows) for rows in certify_depth(FULL)[1][0]), 20000)
+        self.assertIs(holds(*certify_always(FULL, TRUE)), True)
+        check_error(self, errors.UnknownName, {"entry": None, "name": "z"}, certify_always, ABOVE, read_expression("z"))
+        check_error(self, errors.FacesDiffer, {}, certify_alike, ABOVE, SMALL)
+
     def test_one_row_more(self):
+        for function in (listing, summary, certify_depth):
+            self.check(False, function, large(38, True), Table())
+            self.check(True, function, ASKING, Table())
         self.assertEqual(self.rows(large(38, True), Table()), 19901)
         for function in (greatest_tables, least_tables):
             self.check(False, function, large(38, True), large(38, True), ())
@@ -132,6 +169,9 @@ class TestTooLarge(unittest.TestCase):
         self.check(False, can_wait, machine, ("e0",))
         self.check(True, can_wait, machine, ("e1", "e0"))
         self.check(True, obstacle, machine, ("e1", "e0"))
+        for function in (summary, listing, certify_depth):
+            self.check(False, function, machine, Table(pairs[0]))
+            self.check(True, function, machine, Table(*pairs))
         self.check(True, put_off, machine, ("e1", "e0"), ())
         self.check(False, is_quiet, machine, "e0", Table(pairs[0]))
         self.check(True, is_quiet, machine, "e0", Table(*pairs))

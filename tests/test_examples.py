@@ -4,6 +4,8 @@ import unittest
 
 from reentry import errors
 from reentry.always import breach, holds_always, is_kept, violation
+from reentry.certificates import certify_alike, certify_always, certify_depth
+from reentry.checker import holds
 from reentry.clients import client_of, linked
 from reentry.depth import coming, deep_play, depth_of, play_to, used_lines
 from reentry.expressions import Below, Choose, Minus, Number, Variable, read_expression
@@ -12,12 +14,14 @@ from reentry.likeness import alike, parting
 from reentry.machines import Guarded, Layered
 from reentry.modules import Module
 from reentry.plays import plays
+from reentry.reports import listing, summary
 from reentry.rules import Rule
 from reentry.sessions import Session, responses_of
 from reentry.shorter import shorter, without
 from reentry.statements import Assign, Attempt, Call, Fail, If
 from reentry.tables import Table
 from reentry.waiting import can_wait, is_quiet, obstacle, put_off
+from reentry.workshop import Workshop
 
 TEXT = (
     "variable n 4 0\ncallout changed 4 2\nentry add 2 4 k\n  if below(n, 3)\n    assign n plus(n, k)\n"
@@ -222,6 +226,57 @@ class TestExamples(unittest.TestCase):
                 linked(one, client, "main", 2)[1],
             ],
             [4, True, "done", "done", True, False, "cut"],
+        )
+
+    def test_reports(self):
+        module = Module.read("variable busy 2 0\ncallout ask 1 2\nentry go 1 2 z\n  if busy\n    fail\n  call ask 0\n  return 1")
+        self.assertEqual([listing(module, Table()), summary(module)], [
+            "   0   variable busy 2 0\n   1   callout ask 1 2\n   2   entry go 1 2 z\n   3 +   if busy\n   4 -     fail\n   5 +   call ask 0\n"
+            "   6 +   return 1",
+            "depth without end\nhangs no\nouts 1\nbacks 2",
+        ])
+
+    def test_workshop(self):
+        shop, text = Workshop(), "variable n 2 0\nentry go 1 2 z\n  assign n 1\n  return 1"
+        shop.do_all(
+            ("put", "a", text), ("put", "b", "entry go 1 2 z\n  return 1"), ("demand", ("alike", "a", "b", ())),
+            ("demand", ("always", "a", "below(n, 2)", None)),
+        )
+        first = [shop.names, len(shop.demands), len(shop.history), "a" in shop, str(shop.module("b"))]
+        shop.undo()
+        self.assertEqual(
+            first + [shop.demands], [("a", "b"), 2, 4, True, "entry go 1 2 z\n  return 1", (("alike", "a", "b", ()),)],
+        )
+
+    def test_a_broken_demand(self):
+        shop = Workshop()
+        with self.assertRaises(errors.BrokenDemand) as caught:
+            shop.do_all(
+                ("put", "a", "entry go 1 2 z\n  return 1"), ("put", "b", "entry go 1 2 z"), ("demand", ("alike", "a", "b", None)),
+            )
+        self.assertEqual(caught.exception.demand, ("alike", "a", "b", None))
+
+    def test_checker(self):
+        text = "variable n 2 0\ncallout ask 1 1\nentry go 1 2 z\n  call ask 0\n  return n"
+        call = ((0,), "go", 0)
+        table = (((0,),), ((call, ((3, (0,)), (0,))),), ((call, (0,)),))
+        self.assertEqual(
+            [
+                holds(("always", text, "equal(n, 0)", ()), table), holds(("always", text, "equal(n, 1)", ()), table),
+                holds(("depth", text, (), 1), (table, (1,))), holds(("depth", text, (), 0), (table, (1,))),
+                holds(("deep", text, (("ask", "go"),), 2), (("call", "go", 0), ("call", "go", 0))),
+                holds(("endless", text, (("ask", "go"),)), ((("call", "go", 0),), (("call", "go", 0),))),
+            ],
+            [True, False, True, False, True, True],
+        )
+
+    def test_certificates(self):
+        one = Module.read("variable n 2 0\ncallout ask 1 1\nentry go 1 2 z\n  call ask 0\n  return n")
+        other = Module.read("callout ask 1 1\nentry go 1 2 z\n  call ask 0\n  return 0")
+        first, second, third = certify_alike(one, other), certify_always(one, read_expression("n")), certify_depth(one)
+        self.assertEqual(
+            [first[0][0], holds(first[0], first[1]), second[0][0], second[1], third[0][0], holds(third[0], third[1])],
+            ["alike", True, "not always", (), "endless", True],
         )
 
     def test_readme(self):

@@ -66,6 +66,10 @@ INTERFACE = {
     "waiting": {"functions": ["is_quiet", "can_wait", "obstacle", "put_off"], "classes": {}},
     "shorter": {"functions": ["without", "shorter"], "classes": {}},
     "clients": {"functions": ["client_of", "linked"], "classes": {}},
+    "reports": {"functions": ["listing", "summary"], "classes": {}},
+    "workshop": {"functions": [], "classes": {"Workshop": "__init__ do do_all undo module __len__ __contains__".split()}},
+    "checker": {"functions": ["holds"], "classes": {}},
+    "certificates": {"functions": ["certify_alike", "certify_always", "certify_depth"], "classes": {}},
 }
 
 
@@ -212,6 +216,9 @@ class TestLanguage(unittest.TestCase):
             self.assertEqual(set(names) & (NEVER_CAUGHT | {"ValueError", "LookupError", "IndexError"}), set(), place)
         for place, node, _ in self.each(ast.Raise):
             self.assertTrue(node.exc is None or isinstance(node.exc, ast.Call), place)
+        for place, node, _ in self.each(ast.Try):
+            for inner in [inner for statement in node.finalbody for inner in ast.walk(statement)]:
+                self.assertIsInstance(inner, (ast.If, ast.Compare, ast.Is, ast.Constant, ast.Assign, ast.Tuple, ast.Name, ast.Attribute, ast.expr_context), place)
 
     def test_the_interface_stands_where_it_is_listed(self):
         for name, parts in INTERFACE.items():
