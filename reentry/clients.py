@@ -18,7 +18,6 @@ PARAMETER = "p"
 
 def client_of(machine, moves, start="main"):
     """A client that makes just these moves."""
-    check_machine(machine)
     session = played(machine, moves)
     if len(moves) > MAX_CLIENT:
         raise TooLong(MAX_CLIENT)

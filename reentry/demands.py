@@ -17,8 +17,9 @@ def has_form(value):
 
 
 def is_about(demand, name):
-    """Whether a demand that is as described is one on the module with this name."""
-    return demand[1] == name or (demand[0] == "alike" and demand[2] == name)
+    """Whether a demand that is as described may be one on the module with this name."""
+    # A condition can have the text of a name, too: such a demand is looked at once more than it need be.
+    return name in demand[1:3]
 
 
 def check_demand(modules, demand):

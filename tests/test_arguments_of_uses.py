@@ -199,6 +199,15 @@ class TestTooLarge(unittest.TestCase):
         wide = Module.read("variable a 40 0\n" + "\n".join(f"entry e{index} 40 1 k" for index in range(5)))
         self.assertEqual(shorter(wide), wide)
 
+    def test_the_module_that_is_given(self):
+        # Only beside itself it is too large: each of the shorter ones is parted from it soon.
+        module = Module.read("variable a 40 0\ncallout c 40 1\nentry go 40 40 k\n  assign a plus(a, k)\n  attempt\n    call c a\n  return a")
+        self.check(True, alike, module, module)
+        for line in (3, 4, 5, 6):
+            self.assertIs(alike(module, without(module, line)), False)
+        self.check(True, shorter, module)
+        self.assertEqual(shorter(module, Table()), module)
+
     def test_shorter_ones_that_part_at_once(self):
         # Rows with different responses ask for nothing, so that the shorter ones are not too large.
         lines = ["variable a 40 0"]

@@ -89,6 +89,18 @@ class TestHarmless(unittest.TestCase):
         self.assertEqual(least_tables(one, other, pairs)[3].pairs, (("c", "e1"), ("c", "e2")))
         self.assertEqual(self.check(one, other, pairs + (("c", "go"),))[0], 4)
 
+    def test_greatest_tables_of_several_sizes(self):
+        # A call back of the first entry is seen if one of the others has been called back before, in the same wait.
+        head = ["variable busy 2 0", "variable n 3 0", "callout c 1 1", "entry go 1 2 z", "  assign busy 1", "  attempt", "    call c 0", "  assign busy 0"]
+        entries = ["entry e0 1 1 z", "  if both(busy, n)", "    assign n 2"]
+        for name in ("e1", "e2", "e3"):
+            entries += [f"entry {name} 1 1 z", "  if both(busy, not(n))", "    assign n 1"]
+        one = read(*head, "  if equal(n, 2)", "    assign n 0", "    return 1", "  assign n 0", "  return 0", *entries)
+        other = read(*head, "  assign n 0", "  return 0", *entries)
+        first, *others = pairs = tuple(("c", f"e{index}") for index in range(4))
+        for given in (pairs, tuple(reversed(pairs)), pairs[2:] + pairs[:2]):
+            self.check(one, other, given, [((first,), tuple(others)), tuple((first, pair) for pair in others)])
+
     def test_the_same_machine_twice(self):
         for machine in (COUNTER, Guarded(COUNTER), Begun(COUNTER, (2,)), Watched(COUNTER, Rule((), ()))):
             self.check(machine, machine, PAIRS, [(PAIRS,), ()])
@@ -141,3 +153,4 @@ class TestHarmless(unittest.TestCase):
             check_error(self, errors.InvalidPairs, {"index": None}, function, COUNTER, EARLY, Table(*PAIRS))
             check_error(self, errors.InvalidPairs, {"index": 2}, function, COUNTER, EARLY, PAIRS + PAIRS)
             check_error(self, errors.InvalidPairs, {"index": 1}, function, COUNTER, EARLY, (PAIRS[0], ("x", "y"), PAIRS[0], None))
+            check_error(self, errors.InvalidPairs, {"index": 1}, function, COUNTER, EARLY, (PAIRS[0], PAIRS[0], ("x", "y")))

@@ -194,8 +194,8 @@ class TestWorkshop(unittest.TestCase):
     def test_values_that_are_no_deeds(self):
         shop = self.filled()
         values = [value for value in any_values()] + [Stranger(), Workshop(), ONE, ("put",), ("drop",), ("demand",), ("release",), ("alike", "a", "b", None)]
-        values += [("put", "d"), ("put", "d", ONE, None), ["put", "d", ONE], ("put", "D", ONE), ("put", "d", ONE + "\n"), ("put", "d", Module.read(ONE)), ("put", None, ONE), ("put", ["d"], ONE), ("put", "toolongname", ONE), ("Put", "d", ONE), ("put", "d", ""), ("put", True, ONE), ("put", "d", None)]
-        values += [("drop", "a", "b"), ("drop", "A"), ("drop", None), ("drop", ("a",)), ["drop", "a"], ("drop", ""), ("drop", True), ("Drop", "a"), (["drop"], "a"), (None, "a"), (Stranger(), "a")]
+        values += [("put", "d"), ("put", "d", ONE, None), ["put", "d", ONE], ("put", "D", ONE), ("put", "d", ONE + "\n"), ("put", "d", Module.read(ONE)), ("put", None, ONE), ("put", ["d"], ONE), ("put", "toolongname", ONE), ("Put", "d", ONE), ("put", "d", ""), ("put", True, ONE), ("put", "d", None), (Stranger(), "d", ONE), (Stranger(), ("depth", "a", 0, None))]
+        values += [("drop", "a", "b"), ("drop", "A"), ("drop", None), ("drop", ("a",)), ["drop", "a"], ("drop", ""), ("drop", True), ("drop", "a", "b", "c"), ("put", "d", ONE, None, None), ("Drop", "a"), (["drop"], "a"), (None, "a"), (Stranger(), "a")]
         for word in ("demand", "release"):
             for demand in (
                 None, (), ("alike",), ("alike", "a", "b"), ("alike", "a", "b", None, None), ["alike", "a", "b", None], ("Alike", "a", "b", None), ("not alike", "a", "b", None),
@@ -203,6 +203,8 @@ class TestWorkshop(unittest.TestCase):
             ):
                 values.append((word, demand))
             values.append((word, ("alike", "a", "b", None), 1))
+            values.append((word, ("alike", "a", "b", None), 1, 2))
+            values.append((word + "s", ("alike", "a", "b", None)))
             values.append((word,) + ("alike", "a", "b", None))
         for value in values:
             self.check_refused(shop, errors.InvalidDeed, {"value": value}, value)
