@@ -80,7 +80,8 @@ class TestClients(unittest.TestCase):
         responses = responses_of(machine, moves)
         self.assertEqual(log[:len(moves)], tuple(zip(moves, responses)))
         self.assertEqual({move for move, _ in log[len(moves):]} - {("answer", 0)}, set())
-        self.assertEqual(ending, "hang" if log and log[-1][1] == HANG else "cut" if len(log) == 60 else "done")
+        is_cut = len(linked(machine, client, start, 61)[0]) > 60
+        self.assertEqual(ending, "cut" if is_cut else "hang" if log and log[-1][1] == HANG else "done")
         if responses and responses[-1] == HANG:
             self.assertEqual(len(log), len(moves))
         for most in range(len(log) + 2):
