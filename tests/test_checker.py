@@ -210,6 +210,22 @@ class TestClaims(unittest.TestCase):
                 for certificate in (TABLE, (), (TABLE, (1,)), ((GO,), (GO,))):
                     self.check(claim, certificate, False)
 
+    def test_claims_of_other_lengths(self):
+        spin = read("variable n 2 0", "callout ask 1 1", "entry go 1 1 z", "  call ask 0", "  assign n 1")
+        full = Table(*ASK_GO)
+        proofs = [certify_alike(spin, spin), certify_alike(spin, Module.read(TEXT.replace("go 1 2", "go 1 1").replace("n 2 0", "n 2 1").replace("  call ask 0\n", "")))]
+        proofs += [certify_always(spin, read_expression("1")), certify_always(spin, read_expression("not(n)")), certify_depth(spin, Table()), certify_depth(spin, full)]
+        proofs.append((("deep", str(spin), (), 1), (GO,)))
+        self.assertEqual([claim[0] for claim, _ in proofs], ["alike", "not alike", "always", "not always", "depth", "endless", "deep"])
+        for claim, certificate in proofs:
+            self.check(claim, certificate, True)
+            self.check(claim[:-1], certificate, False)
+            self.check(claim[1:], certificate, False)
+            self.check(list(claim), certificate, False)
+            for more in ((), 0, 1, None, claim[-1], str(spin)):
+                self.check(claim + (more,), certificate, False)
+                self.check(claim[:1] + (more,) + claim[1:], certificate, False)
+
     def test_texts(self):
         claim, certificate = certify_alike(COUNTER, COUNTER)
         for text in (TEXT, "", str(COUNTER) + "\n", str(COUNTER) + " ", str(COUNTER).replace("return n", "return  n"), COUNTER, str(EARLY), str(COUNTER).encode(), None):
@@ -413,6 +429,73 @@ class TestClaims(unittest.TestCase):
         call = ((), (), "go", 0)
         self.check(claim, (table[0], table[1] + ((call, ((3, (0,)), (), (4, (0,)), ())),), table[2]), False)
         self.assertIn((call, ((3, (0,)), (), (3, (0,)), ())), table[1])
+        # Both answer in the same way, so that nothing but the callouts tells such a place from the others.
+        two = read("callout a 1 1", "callout b 1 1", "entry go 2 1 k", "  if k", "    call a 0", "  else", "    call b 0")
+        claim, table = certify_alike(two, two, Table())
+        self.check(claim, table, True)
+        for first, second, expected in (((4, (1,)), (6, (0,)), False), ((6, (0,)), (4, (1,)), False), ((4, (1,)), (4, (0,)), True), ((6, (0,)), (6, (1,)), True)):
+            self.check(claim, (table[0], table[1] + ((call, (first, (), second, ())),), table[2]), expected)
+
+    def test_calls_that_are_made_at_places_alone(self):
+        # The store with which this module calls out is no ground: what comes from it is asked for by the place.
+        made = read("variable n 3 0", "callout ask 1 1", "entry go 1 2 z", "  if n", "    return 1", "  assign n 1", "  attempt", "    call ask 0", "  assign n 0")
+        full = Table(*ASK_GO)
+        for claim, table in (certify_alike(made, made, full), certify_always(made, read_expression("below(n, 2)"), full)):
+            self.assertEqual([len(rows) for rows in table], [1, 1, 2])
+            self.check(claim, table, True)
+            for index in range(2):
+                rows = table[2][:index] + table[2][index + 1:]
+                self.check(claim, table[:2] + (rows,), False)
+                self.check(claim[:3] + ((),), table[:2] + (rows,), table[2][index][0][0] == (1,))
+        claim, (table, ranks) = certify_depth(made, full)
+        self.assertEqual((claim[3], ranks), (1, (1,)))
+        for index in range(2):
+            self.check(claim, ((table[0], table[1], table[2][:index] + table[2][index + 1:]), ranks), False)
+        # Such a call hides a breach, another response, and a deeper call where it is left out.
+        bad = Module.read(str(made).replace("    return 1", "    assign n 2\n    return 1"))
+        call, within = ((0,), "go", 0), ((1,), "go", 0)
+        hiding = (((0,),), ((call, ((8, (0,)), (1,))),), ((call, (0,)),))
+        shown = (hiding[0], hiding[1] + ((call, ((8, (0,)), (2,))),), hiding[2] + ((within, (2,)), (((2,), "go", 0), (2,))))
+        for condition, expected in (("below(n, 2)", False), ("below(n, 3)", True)):
+            self.check(("always", str(bad), condition, ()), hiding, True)
+            self.check(("always", str(bad), condition, ASK_GO), hiding, False)
+            self.check(("always", str(bad), condition, ASK_GO), shown, expected)
+        other = Module.read(str(made).replace("    return 1", "    return 0"))
+        call = ((0,), (0,), "go", 0)
+        both = ((((0,), (0,)),), ((call, ((7, (0,)), (1,), (7, (0,)), (1,))),), ((call, ((0,), (0,))),))
+        self.check(("alike", str(made), str(other), ()), both, True)
+        self.check(("alike", str(made), str(other), ASK_GO), both, False)
+        deep = read("variable n 2 0", "callout ask 1 1", "entry go 1 1 z", "  assign n plus(n, 1)", "  attempt", "    call ask 0", "  assign n 0")
+        call, within = ((0,), "go", 0), ((1,), "go", 0)
+        flat = (((0,),), ((call, ((5, (0,)), (1,))),), ((call, (0,)),))
+        self.check(("depth", str(deep), (), 1), (flat, (1,)), True)
+        self.check(("depth", str(deep), ASK_GO, 1), (flat, (1,)), False)
+
+    def test_pair_rows_of_other_forms(self):
+        claim, table = certify_alike(Module.read(TEXT), Module.read(TEXT), Table())
+        self.check(claim, table, True)
+        other = ((1,), (1,), "go", 0)
+        place, end = ((3, (0,)), (1,), (3, (0,)), (1,)), ((1,), (1,))
+        self.check(claim, (table[0], table[1] + ((other, place),), table[2] + ((other, end),)), True)
+        self.check(claim, (table[0], table[1], table[2] + ((other, end),)), True)
+        for call in (
+            ((2,), (1,), "go", 0), ((1,), (2,), "go", 0), ((True,), (1,), "go", 0), ((1,), (True,), "go", 0), ([1], (1,), "go", 0), ((1,), [1], "go", 0), ((1,), "go", 0),
+            ((1,), (1,), "go", 1), ((1,), (1,), "go", False), ((1,), (1,), "ask", 0), ((1,), (1,), "go"), ((1,), (1,), "go", 0, 0), (((1,), (1,)), "go", 0), list(other), None,
+        ):
+            self.check(claim, (table[0], table[1], table[2] + ((call, end),)), False)
+            self.check(claim, (table[0], table[1] + ((call, place),), table[2] + ((call, end),)), False)
+        for store in (((1,), (2,)), ((2,), (1,)), ((1,),), (1,), ((1,), (1,), (1,)), ((True,), (1,)), ((1,), (True,)), [(1,), (1,)], ([1], (1,)), ((1,), [1]), (), None):
+            self.check(claim, (table[0], table[1], table[2] + ((other, store),)), False)
+            self.check(claim, (table[0] + (store,), table[1], table[2]), False)
+        for index, wrongs in ((0, ((4, (0,)), (3, (1,)), (3, (False,)), [3, (0,)], (3,), None)), (1, ((2,), (True,), [1], (), None))):
+            for wrong in wrongs:
+                for side in (index, index + 2):
+                    row = (other, place[:side] + (wrong,) + place[side + 1:])
+                    self.check(claim, (table[0], table[1] + (row,), table[2] + ((other, end),)), False)
+        for row in ((other,), (other, place, place), [other, place], (place, other), (other, place[:3]), (other, place + ((1,),)), (other, list(place)), other, None):
+            self.check(claim, (table[0], table[1] + (row,), table[2] + ((other, end),)), False)
+        for row in ((other,), (other, end, end), [other, end], (end, other), other, None):
+            self.check(claim, (table[0], table[1], table[2] + (row,)), False)
 
     def test_no_limit_of_rows(self):
         # Tables of more than 20,000 rows: all stores of four variables, none of which is needed.
