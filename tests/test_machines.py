@@ -250,6 +250,15 @@ class TestBegun(unittest.TestCase):
         self.assertEqual(guarded.values_in(guarded.first), (2,))
         self.assertEqual(guarded.first, Guarded(COUNTER).enter(Guarded(Begun(COUNTER, (2,))).first, "get", 0)[1])
 
+    def test_a_rule_within_begins_in_state_0(self):
+        watched = Watched(COUNTER, Rule(((0, ("call", "get"), 1),), ()))
+        for made in (Begun(watched, (2,)), Begun(Guarded(watched), (2,)), Begun(Begun(watched, (1,)), (2,)), Begun(Layered(watched, TICK, ()), (2, 1))):
+            self.assertNotEqual(made.enter(made.first, "get", 0)[1], made.first)
+            store = made.enter(made.first, "get", 0)[1]
+            self.assertEqual(made.enter(store, "get", 0)[1], store)
+        kept = Begun(Watched(COUNTER, Rule(((1, ("call", "get"), 0), (99, ("call", "get"), 0)), ())), (2,))
+        self.assertEqual(kept.enter(kept.first, "get", 0)[1], kept.first)
+
     def test_plays_like_the_other_machine(self):
         made = Begun(COUNTER, (2,))
         response, store, frame = made.enter(made.first, "add", 1)
@@ -525,6 +534,18 @@ class TestLayered(unittest.TestCase):
         both = Layered(after, spin, ())
         _, store, frame = both.enter(both.first, "go", 0)
         self.assertEqual(both.resume(store, frame, 0), (HANG, store, None))
+
+    def test_hangs_behind_a_wired_call_leave_both_stores(self):
+        upper = read(
+            "variable n 3 0", "callout a 1 3", "callout b 1 1", "entry go 1 1 z", "  assign n 1", "  call a 0", "  assign n 2", "  while 1",
+            "entry on 1 1 z", "  assign n 1", "  call b 0", "  call a 0", "  assign n 2", "  while 1",
+        )
+        both = Layered(upper, TICK, (("a", "tick"),))
+        self.assertEqual(both.enter(both.first, "go", 0), (HANG, both.first, None))
+        _, store, frame = both.enter(both.first, "on", 0)
+        self.assertEqual(both.values_in(store), (1, 0))
+        self.assertEqual(both.resume(store, frame, 0), (HANG, store, None))
+        self.assertEqual(both.enter(store, "go", 0), (HANG, store, None))
 
     def test_rings_without_an_end(self):
         upper = read("callout a 1 3", "entry go 1 1 z", "  while 1", "    call a 0")
